@@ -3,7 +3,10 @@ package prologue
 
 import (
 	"prologue/api"
+	"prologue/codec"
+	"prologue/interpret"
 	"prologue/memory"
+	"prologue/program"
 	"prologue/table"
 )
 
@@ -38,17 +41,17 @@ func CheckTable(t api.Table) error { return table.Check(t) }
 func Sample(k int) (api.Table, error) { return table.Sample(k) }
 
 // Encode a program (P6).
-func Encode(p api.Program) (string, error) { return "", nil }
+func Encode(p api.Program) (string, error) { return codec.Encode(p) }
 
 // Decode a program (P6).
-func Decode(s string) (api.Program, error) { return api.Program{}, nil }
+func Decode(s string) (api.Program, error) { return codec.Decode(s) }
 
 // CheckProgram tells whether a program may be, by a table (P7).
-func CheckProgram(t api.Table, p api.Program) error { return nil }
+func CheckProgram(t api.Table, p api.Program) error { return program.Check(t, p) }
 
 // Interpret a program (P8).
 func Interpret(t api.Table, p api.Program, f int, args, script []uint64, fuel int) (api.Outcome, error) {
-	return api.Outcome{}, nil
+	return interpret.Run(t, p, f, args, script, fuel)
 }
 
 // Classify tells where arguments and results go (P9).

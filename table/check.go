@@ -35,7 +35,7 @@ func listsFit(t api.Table) bool {
 }
 
 func registersFit(t api.Table) bool {
-	own := reserved(t)
+	own := Reserved(t)
 	if !areRegisters(own, t.Regs) {
 		return false
 	}
@@ -47,8 +47,8 @@ func registersFit(t api.Table) bool {
 	return !meet(t.Saves, t.Args) && !meet(t.Saves, t.Results)
 }
 
-// reserved: the registers that have a use of their own.
-func reserved(t api.Table) []int {
+// Reserved: the registers that have a use of their own.
+func Reserved(t api.Table) []int {
 	l := []int{t.SP, t.Temps[0], t.Temps[1]}
 	if t.Link != -1 {
 		l = append(l, t.Link)

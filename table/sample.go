@@ -1,7 +1,6 @@
 package table
 
 import (
-	"slices"
 	"sync"
 
 	"prologue/api"
@@ -13,33 +12,26 @@ const (
 	linking = "regs 14; sp 13; link 12; temps 10 11; args 0 1 2 3; results 0 1; saves 6 7 8 9; align 16; shadow 16; byref 2; pairs;"
 )
 
-// shelf of the tables that are built in, once their texts are read.
-type shelf struct {
-	once   sync.Once
-	tables [2]api.Table
+// reading of a text that is built in, which is gone through once, however often its table is asked for. Each call of Sample has one of its own: nothing is kept from call to call, and each caller may write into the lists that it gets.
+type reading struct {
+	text  string
+	once  sync.Once
+	table api.Table
 }
-
-var builtIn = shelf{}
 
 // Sample: the k-th table that is built in.
 func Sample(k int) (api.Table, error) {
-	if k != 0 && k != 1 {
-		return api.Table{}, api.ErrArg
+	switch k {
+	case 0:
+		return (&reading{text: pushing}).read(), nil
+	case 1:
+		return (&reading{text: linking}).read(), nil
 	}
-	builtIn.once.Do(readBuiltIn)
-	return clone(builtIn.tables[k]), nil
+	return api.Table{}, api.ErrArg
 }
 
-// readBuiltIn asks for no error: the texts are constants, and tables both.
-func readBuiltIn() {
-	builtIn.tables[0], _ = Parse(pushing)
-	builtIn.tables[1], _ = Parse(linking)
-}
-
-// clone: the lists that are given out may be written into, those on the shelf may not.
-func clone(t api.Table) api.Table {
-	t.Args = slices.Clone(t.Args)
-	t.Results = slices.Clone(t.Results)
-	t.Saves = slices.Clone(t.Saves)
-	return t
+// read asks for no error: the texts are constants, and tables both.
+func (r *reading) read() api.Table {
+	r.once.Do(func() { r.table, _ = Parse(r.text) })
+	return r.table
 }
