@@ -4,8 +4,11 @@ package prologue
 import (
 	"prologue/api"
 	"prologue/codec"
+	"prologue/frame"
 	"prologue/interpret"
+	"prologue/layout"
 	"prologue/memory"
+	"prologue/order"
 	"prologue/program"
 	"prologue/table"
 )
@@ -55,13 +58,13 @@ func Interpret(t api.Table, p api.Program, f int, args, script []uint64, fuel in
 }
 
 // Classify tells where arguments and results go (P9).
-func Classify(t api.Table, s api.Sig) (api.Layout, error) { return api.Layout{}, nil }
+func Classify(t api.Table, s api.Sig) (api.Layout, error) { return layout.Classify(t, s) }
 
 // Frame of a function (P10).
-func Frame(t api.Table, p api.Program, f int) (api.Frame, error) { return api.Frame{}, nil }
+func Frame(t api.Table, p api.Program, f int) (api.Frame, error) { return frame.Lay(t, p, f) }
 
 // Order tells moves one behind the other that do what these do all at once (P11).
-func Order(t api.Table, l []api.Pair) ([]api.Pair, error) { return nil, nil }
+func Order(t api.Table, l []api.Pair) ([]api.Pair, error) { return order.Moves(t, l) }
 
 // Execute code (P12).
 func Execute(t api.Table, c api.Code, f int, args, script []uint64, stack, steps int) (api.Outcome, error) {
