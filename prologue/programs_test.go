@@ -303,12 +303,12 @@ func setLeaf(p *api.Program, k, n int) {
 
 var edges = []int{-1 << 63, -256, -2, -1, 0, 1, 2, 3, 4, 5, 7, 8, 9, 11, 12, 13, 15, 16, 17, 18, 19, 255, 256, 1 << 32, 1<<63 - 1}
 
-// spoil changes one number or list of a program.
-func (m *maker) spoil(p *api.Program) {
+// spoil changes one number or list of a program, or of code.
+func (m *maker) spoil(p any) {
 	all := leaves(reflect.ValueOf(p).Elem())
 	v := all[m.Intn(len(all))]
 	switch v.Kind() {
-	case reflect.Int:
+	case reflect.Int, reflect.Int64:
 		n := edges[m.Intn(len(edges))]
 		if m.Intn(2) == 0 {
 			n = int(v.Int()) + []int{-8, -4, -2, -1, 1, 2, 4, 8}[m.Intn(8)]
@@ -383,7 +383,7 @@ func addNumbers(l []uint64, v reflect.Value) []uint64 {
 		}
 	case reflect.Uint64:
 		l = append(l, v.Uint())
-	case reflect.Int:
+	case reflect.Int, reflect.Int64:
 		l = append(l, uint64(v.Int()))
 	}
 	return l

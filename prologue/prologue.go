@@ -7,6 +7,7 @@ import (
 	"prologue/frame"
 	"prologue/interpret"
 	"prologue/layout"
+	"prologue/machine"
 	"prologue/memory"
 	"prologue/order"
 	"prologue/program"
@@ -68,7 +69,7 @@ func Order(t api.Table, l []api.Pair) ([]api.Pair, error) { return order.Moves(t
 
 // Execute code (P12).
 func Execute(t api.Table, c api.Code, f int, args, script []uint64, stack, steps int) (api.Outcome, error) {
-	return api.Outcome{}, nil
+	return machine.Run(t, c, f, args, script, stack, steps)
 }
 
 // Lower a program (P13).
