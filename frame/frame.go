@@ -60,23 +60,12 @@ func called(t api.Table, p api.Program, f int) []api.Layout {
 	own := program.Sig(p.Funcs[f])
 	for _, block := range p.Funcs[f].Blocks {
 		for _, i := range block {
-			if s, ok := callee(p, i); ok && !(i.Op == api.Tail && layout.IsJump(t, own, s)) {
+			if s, ok := program.Callee(p, i); ok && !(i.Op == api.Tail && layout.IsJump(t, own, s)) {
 				all = append(all, layout.Of(t, s))
 			}
 		}
 	}
 	return all
-}
-
-// callee: the signature of what an instruction calls, if it calls anything.
-func callee(p api.Program, i api.Ins) (api.Sig, bool) {
-	switch i.Op {
-	case api.Call, api.Tail:
-		return program.Sig(p.Funcs[i.F]), true
-	case api.Ext:
-		return p.Externs[i.F], true
-	}
-	return api.Sig{}, false
 }
 
 // saved: the registers that the function uses and must keep, by rising numbers.

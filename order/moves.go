@@ -16,6 +16,11 @@ func Moves(t api.Table, l []api.Pair) ([]api.Pair, error) {
 	if !arePlaces(t, l) || !areApart(l) {
 		return nil, api.ErrArg
 	}
+	return Of(t, l), nil
+}
+
+// Of a list: Moves for those who know that the table and the list may be.
+func Of(t api.Table, l []api.Pair) []api.Pair {
 	w := &work{t: t, readers: map[api.Place]int{}}
 	for _, p := range l {
 		if p.To != p.From {
@@ -24,7 +29,7 @@ func Moves(t api.Table, l []api.Pair) ([]api.Pair, error) {
 		}
 	}
 	w.run()
-	return w.made, nil
+	return w.made
 }
 
 func arePlaces(t api.Table, l []api.Pair) bool {

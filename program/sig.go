@@ -11,6 +11,17 @@ func Sig(f api.Func) api.Sig {
 	return s
 }
 
+// Callee: the signature of what an instruction calls, if it calls anything.
+func Callee(p api.Program, i api.Ins) (api.Sig, bool) {
+	switch i.Op {
+	case api.Call, api.Tail:
+		return Sig(p.Funcs[i.F]), true
+	case api.Ext:
+		return p.Externs[i.F], true
+	}
+	return api.Sig{}, false
+}
+
 // SigFits tells whether a signature is within its bounds.
 func SigFits(s api.Sig) bool {
 	if len(s.Params) > api.MaxParams || !isWithin(s.Results, 0, api.MaxResults) {

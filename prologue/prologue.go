@@ -7,6 +7,7 @@ import (
 	"prologue/frame"
 	"prologue/interpret"
 	"prologue/layout"
+	"prologue/lower"
 	"prologue/machine"
 	"prologue/memory"
 	"prologue/order"
@@ -73,7 +74,7 @@ func Execute(t api.Table, c api.Code, f int, args, script []uint64, stack, steps
 }
 
 // Lower a program (P13).
-func Lower(t api.Table, p api.Program) (api.Code, error) { return api.Code{}, nil }
+func Lower(t api.Table, p api.Program) (api.Code, error) { return lower.Program(t, p) }
 
 // Validate tells whether the code of a function does what the program's does (P14).
 func Validate(t api.Table, p api.Program, c api.Code, f int) (bool, error) { return false, nil }

@@ -23,11 +23,17 @@ type slowMachine struct {
 	script []uint64
 	at, f  int
 	inside map[int]int // of each place in the row the function
+	watch  *watcher
 	o      api.Outcome
 }
 
-func slowExecute(t api.Table, c api.Code, f int, args, script []uint64, stack, steps int) (o api.Outcome) {
-	m := &slowMachine{t: t, c: c, number: map[int]int{}, regs: map[int]uint64{}, bytes: map[int]byte{}, size: stack, script: script, inside: map[int]int{}}
+func slowExecute(t api.Table, c api.Code, f int, args, script []uint64, stack, steps int) api.Outcome {
+	return slowWatched(t, c, f, args, script, stack, steps, nil)
+}
+
+// slowWatched: slowExecute, while somebody (or nobody) looks at what calls keep.
+func slowWatched(t api.Table, c api.Code, f int, args, script []uint64, stack, steps int, watch *watcher) (o api.Outcome) {
+	m := &slowMachine{t: t, c: c, number: map[int]int{}, regs: map[int]uint64{}, bytes: map[int]byte{}, size: stack, script: script, inside: map[int]int{}, watch: watch}
 	m.lay()
 	for r := range t.Regs {
 		m.regs[r] = uint64(7000 + r)
@@ -117,6 +123,7 @@ func (m *slowMachine) setReg(r int, v uint64) {
 			m.end(api.Fault, 2)
 		}
 		m.o.Peak = max(m.o.Peak, m.size-int(v))
+		m.watch.looks(v)
 	}
 	m.regs[r] = v
 }
@@ -175,6 +182,7 @@ func (m *slowMachine) align() {
 
 func (m *slowMachine) call(f, number int) {
 	m.align()
+	m.watch.calls(m, f)
 	if m.t.Link < 0 {
 		m.setReg(m.t.SP, m.sp(-8))
 		m.put(m.sp(0), 8, uint64(number))
@@ -189,6 +197,7 @@ func (m *slowMachine) enter(f int) {
 		m.end(api.Fault, 1)
 	}
 	m.at, m.f = m.starts[f][0], f
+	m.watch.enters(f)
 }
 
 func (m *slowMachine) goTo(b int) {
@@ -322,6 +331,7 @@ func (m *slowMachine) ret() bool {
 		number = m.get(m.sp(0), 8)
 		m.setReg(m.t.SP, m.sp(8))
 	}
+	m.watch.comesBack(m)
 	for at, n := range m.number {
 		if uint64(n) == number {
 			m.at, m.f = at, m.inside[at]
