@@ -55,7 +55,7 @@ func homings(t api.Table, locals int) [][]int {
 	return all
 }
 
-// lowered: the code of a program, which must be right by the checker of the tests.
+// lowered: the code of a program, which must be right by Validate and by the checker of the tests.
 func lowered(t *testing.T, name string, table api.Table, p api.Program) api.Code {
 	t.Helper()
 	c, fault := plain.Lower(table, p)
@@ -65,6 +65,9 @@ func lowered(t *testing.T, name string, table api.Table, p api.Program) api.Code
 	for f := range p.Funcs {
 		if wrong := slowValidate(table, p, c, f); wrong != "" {
 			t.Fatalf("%s: the function %d: %s, of %+v, by %+v, of %+v", name, f, wrong, c.Funcs[f], table, p)
+		}
+		if ok, err := prologue.Validate(table, p, c, f); !ok || err != nil {
+			t.Fatalf("%s: Validate = %v, %v of the function %d: %+v, by %+v, of %+v", name, ok, err, f, c.Funcs[f], table, p)
 		}
 	}
 	return c
@@ -121,14 +124,16 @@ func agree(t *testing.T, name string, table api.Table, p api.Program, c api.Code
 	return o, q, w
 }
 
-// isLowered: the program is lowered, and what comes of its function 0 must be this.
+// isLowered: the program is lowered, and what comes of its function 0 must be this. Its code is also tried with one instruction changed.
 func isLowered(t *testing.T, name string, table api.Table, p api.Program, args, script []uint64, want api.Outcome) api.Code {
 	t.Helper()
 	c := lowered(t, name, table, p)
-	o, q, _ := agree(t, name, table, p, c, start{args: args, script: script, stack: 8192, steps: 5000})
+	s := start{args: args, script: script, stack: 8192, steps: 5000}
+	o, q, _ := agree(t, name, table, p, c, s)
 	if !sameEnd(q, want) {
 		t.Errorf("%s: Execute = %+v, want %+v, Interpret = %+v, by %+v, of %+v", name, q, want, o, table, p)
 	}
+	new(tally).changes(t, newMaker(int64(factor(c)+7*o.Steps+len(name))), table, p, c, s, 1)
 	return c
 }
 

@@ -3,6 +3,8 @@ package prologue
 
 import (
 	"prologue/api"
+	"prologue/build"
+	"prologue/checker"
 	"prologue/codec"
 	"prologue/frame"
 	"prologue/interpret"
@@ -77,7 +79,9 @@ func Execute(t api.Table, c api.Code, f int, args, script []uint64, stack, steps
 func Lower(t api.Table, p api.Program) (api.Code, error) { return lower.Program(t, p) }
 
 // Validate tells whether the code of a function does what the program's does (P14).
-func Validate(t api.Table, p api.Program, c api.Code, f int) (bool, error) { return false, nil }
+func Validate(t api.Table, p api.Program, c api.Code, f int) (bool, error) {
+	return checker.Validate(t, p, c, f)
+}
 
 // Build code out of a table's text and a program's bytes (P15).
-func Build(text, program string) (api.Code, error) { return api.Code{}, nil }
+func Build(text, program string) (api.Code, error) { return build.Code(text, program) }

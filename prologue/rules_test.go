@@ -4,8 +4,10 @@ import (
 	"go/ast"
 	"go/parser"
 	"go/token"
+	"maps"
 	"path/filepath"
 	"slices"
+	"strconv"
 	"strings"
 	"testing"
 )
@@ -109,6 +111,35 @@ func TestP2NothingIsKept(t *testing.T) {
 				}
 				return true
 			})
+		}
+	}
+}
+
+// reached: the project's packages that a package imports, and those that these import.
+func reached(all map[string][]*ast.File, folder string, found map[string]int) {
+	for _, file := range all[folder] {
+		for _, i := range file.Imports {
+			path, _ := strconv.Unquote(i.Path.Value)
+			if name, ok := strings.CutPrefix(path, "prologue/"); ok && found[name] == 0 {
+				found[name]++
+				reached(all, name, found)
+			}
+		}
+	}
+}
+
+// The checker shares with the lowering no more than tables, programs, layouts and frames (and what a program's check leans on: which widths there are).
+func TestP14SharesNoMore(t *testing.T) {
+	all := sources(t, token.NewFileSet())
+	checker, lower := map[string]int{}, map[string]int{}
+	reached(all, "checker", checker)
+	reached(all, "lower", lower)
+	if checker["lower"]+checker["order"]+lower["checker"] > 0 || lower["order"] == 0 {
+		t.Errorf("the checker reaches %v, the lowering %v", slices.Sorted(maps.Keys(checker)), slices.Sorted(maps.Keys(lower)))
+	}
+	for name := range checker {
+		if lower[name] > 0 && !slices.Contains([]string{"api", "table", "program", "memory", "layout", "frame"}, name) {
+			t.Errorf("both reach %s", name)
 		}
 	}
 }

@@ -35,9 +35,9 @@ type sight struct {
 
 type notRight string
 
-func (k *slowChecker) must(yes bool, why string) {
+func (k *slowChecker) must(yes bool, why string, which ...any) {
 	if !yes {
-		panic(notRight(why))
+		panic(notRight(fmt.Sprintln(append([]any{why}, which...)...)))
 	}
 }
 
@@ -57,10 +57,11 @@ func slowValidate(t api.Table, p api.Program, c api.Code, f int) (wrong string) 
 	case len(c.Funcs[f]) != len(fn.Blocks)+1:
 		return "so many blocks"
 	}
-	at := ""
+	var block, at int
+	var move api.Move
 	defer func() {
 		if w := recover(); w != nil {
-			wrong = at + ": " + string(w.(notRight))
+			wrong = fmt.Sprintf("block %d, instruction %d, %+v: %s", block, at, move, w.(notRight))
 		}
 	}()
 	for b, moves := range c.Funcs[f] {
@@ -74,9 +75,10 @@ func slowValidate(t api.Table, p api.Program, c api.Code, f int) (wrong string) 
 			k.atBlock()
 			k.look(fn.Blocks[b-1])
 		}
+		block = b
 		k.must(len(moves) > 0, "a block without anything")
 		for n, i := range moves {
-			at = fmt.Sprintf("block %d, instruction %d, %+v", b, n, i)
+			at, move = n, i
 			if n == len(moves)-1 {
 				k.last(i)
 			} else {
@@ -349,13 +351,13 @@ func (k *slowChecker) argsStand(l api.Layout, args [][]string, from int) {
 	for n, spot := range l.Args {
 		for w, v := range args[n] {
 			if !spot.Ref {
-				k.must(k.get(spot.Places[w], from) == v, fmt.Sprintf("the word %d of the argument %d", w, n))
+				k.must(k.get(spot.Places[w], from) == v, "an argument: the word, which one", w, n)
 				continue
 			}
 			at := -1
 			fmt.Sscanf(k.get(spot.Places[0], from), "address %d", &at)
-			k.must(at >= k.x.Out && at%8 == 0 && at+8*len(args[n]) <= k.x.Out+k.x.Copies, fmt.Sprintf("the address of the copy %d", n))
-			k.must(k.cell(at+8*w) == v, fmt.Sprintf("the word %d of the copy %d", w, n))
+			k.must(at >= k.x.Out && at%8 == 0 && at+8*len(args[n]) <= k.x.Out+k.x.Copies, "the address of the copy", n)
+			k.must(k.cell(at+8*w) == v, "a copy: the word, which one", w, n)
 		}
 	}
 }
@@ -363,17 +365,17 @@ func (k *slowChecker) argsStand(l api.Layout, args [][]string, from int) {
 func (k *slowChecker) stands() {
 	k.must(k.depth == 0, "the depth")
 	for p, v := range k.keeps() {
-		k.must(k.get(p, 0) == v, fmt.Sprintf("%s is not in %+v", v, p))
+		k.must(k.get(p, 0) == v, "not where it is kept:", v, p)
 	}
 	for n := range k.fn.Homes {
-		k.must(k.get(k.home(n), 0) == k.locals[n], fmt.Sprintf("the local %d", n))
+		k.must(k.get(k.home(n), 0) == k.locals[n], "the local", n)
 	}
 }
 
 func (k *slowChecker) isLeft() {
 	k.must(k.depth == k.x.Size, "the depth")
 	for _, r := range k.t.Saves {
-		k.must(k.regs[r] == before(r), fmt.Sprintf("the register %d", r))
+		k.must(k.regs[r] == before(r), "the register", r)
 	}
 	k.must(k.t.Link != -1 && k.regs[k.t.Link] == "return" || k.t.Link == -1 && k.cell(k.x.Size) == "return", "the return address")
 }
@@ -386,7 +388,7 @@ func (k *slowChecker) slotsStand() {
 			if param >= 0 {
 				v = word(param, w)
 			}
-			k.must(k.cell(k.x.Slots[n]+8*w) == v, fmt.Sprintf("the word %d of the slot %d", w, n))
+			k.must(k.cell(k.x.Slots[n]+8*w) == v, "a slot: the word, which one", w, n)
 		}
 	}
 }
@@ -421,7 +423,7 @@ func (k *slowChecker) last(i api.Move) {
 		k.must(i.Op == api.Ret, "no Ret")
 		k.isLeft()
 		for n, p := range k.own.Results {
-			k.must(k.get(p, k.x.In) == k.locals[x.Outs[n]], fmt.Sprintf("the result %d", n))
+			k.must(k.get(p, k.x.In) == k.locals[x.Outs[n]], "the result", n)
 		}
 	case api.Tail:
 		if k.jumps(x) {
@@ -430,7 +432,7 @@ func (k *slowChecker) last(i api.Move) {
 		k.must(i.Op == api.Ret, "no Ret")
 		k.isLeft()
 		for n, p := range k.own.Results {
-			k.must(k.get(p, k.x.In) == result(k.calls-1, n), fmt.Sprintf("the result %d", n))
+			k.must(k.get(p, k.x.In) == result(k.calls-1, n), "the result", n)
 		}
 	}
 }
